@@ -201,4 +201,4 @@ func (b *body) jump(op byte, blk *block) {
 }
 
 // aim lets the instruction at the place go to what comes next.
-func (b *body) aim(n int) { (*b.list)[n].Jump.To = b.here() }
+func (b *body) aim(n int) { b.out.Code[n].Jump.To = b.here() }

@@ -9,18 +9,17 @@ import (
 // body is one function's body while it is gone through.
 type body struct {
 	in      *scan.Reader
-	funcs   []code.Func
+	out     *code.Module // the whole one
 	globals []global
-	list    *[]code.Instr // the whole module's
-	locals  []byte        // types, parameters first
-	stack   []byte        // types
-	blocks  []block       // the body, then those in one another
-	at      int           // the place of the instruction that is looked at
-	closed  bool          // behind what never goes on
+	locals  []byte  // types, parameters first
+	stack   []byte  // types
+	blocks  []block // the body, then those in one another
+	at      int     // the place of the instruction that is looked at
+	closed  bool    // behind what never goes on
 }
 
 func newBody(k *looker, in *scan.Reader, typ code.Type) *body {
-	b := &body{in: in, funcs: k.out.Funcs, globals: k.globals, list: &k.out.Code}
+	b := &body{in: in, out: k.out, globals: k.globals}
 	b.blocks = []block{{kind: whole, result: typ.Results}}
 	return b
 }
@@ -122,11 +121,11 @@ func (b *body) stop() *scan.Fault {
 }
 
 func (b *body) call() *scan.Fault {
-	n, fault := b.in.Below(len(b.funcs))
+	n, fault := b.in.Below(len(b.out.Funcs))
 	if fault != nil {
 		return fault
 	}
-	typ := b.funcs[n].Type
+	typ := b.out.Funcs[n].Type
 	if !b.takeAll(typ.Params) {
 		return b.wrong()
 	}
@@ -189,10 +188,10 @@ func (b *body) global(op byte) *scan.Fault {
 }
 
 // emit puts an instruction at the end of the list.
-func (b *body) emit(next code.Instr) { *b.list = append(*b.list, next) }
+func (b *body) emit(next code.Instr) { b.out.Code = append(b.out.Code, next) }
 
 // here is the place in the list of what comes next.
-func (b *body) here() int { return len(*b.list) }
+func (b *body) here() int { return len(b.out.Code) }
 
 func (b *body) put(typs ...byte) { b.stack = append(b.stack, typs...) }
 

@@ -26,7 +26,7 @@ type looker struct {
 	in      *scan.Reader
 	types   []code.Type
 	globals []global
-	out     code.Module
+	out     *code.Module
 }
 
 // Module looks at a module: it is either given or what is wrong with it.
@@ -34,14 +34,14 @@ func Module(data []byte) (*code.Module, *scan.Fault) {
 	if len(data) > api.MaxBytes {
 		return nil, &scan.Fault{Err: api.ErrLong}
 	}
-	k := &looker{in: scan.New(data)}
+	k := &looker{in: scan.New(data), out: &code.Module{}}
 	parts := []func() *scan.Fault{k.readMagic, k.readTypes, k.readFuncs, k.readGlobals, k.readPages, k.readBodies, k.readEnd}
 	for _, part := range parts {
 		if fault := part(); fault != nil {
 			return nil, fault
 		}
 	}
-	return &k.out, nil
+	return k.out, nil
 }
 
 func (k *looker) readMagic() *scan.Fault {
