@@ -1,9 +1,10 @@
 // Package code is what a module is turned into: one flat list of instructions, with nothing left in it to look up or to check.
 package code
 
-// The instructions whose types hang on what stands around them.
+// The instructions; of those that stand in a row of the same kind, the first and the last one.
 const (
 	Unreachable = 0x00
+	Nothing     = 0x01
 	Block       = 0x02
 	Loop        = 0x03
 	If          = 0x04
@@ -16,11 +17,45 @@ const (
 	Call        = 0x10
 	Drop        = 0x1a
 	Select      = 0x1b
-	LocalGet    = 0x20
-	LocalSet    = 0x21
-	LocalTee    = 0x22
-	GlobalGet   = 0x23
-	GlobalSet   = 0x24
+
+	LocalGet  = 0x20
+	LocalSet  = 0x21
+	LocalTee  = 0x22
+	GlobalGet = 0x23
+	GlobalSet = 0x24
+
+	MemoryGet32      = 0x28
+	MemoryGet64      = 0x29
+	MemoryGet8Signed = 0x2c
+	MemoryGet8       = 0x2d
+	MemorySet32      = 0x36
+	MemorySet64      = 0x37
+	MemorySet8       = 0x3a
+	Pages            = 0x3f
+	Grow             = 0x40
+
+	Number32     = 0x41
+	Number64     = 0x42
+	Zero32       = 0x45
+	Same32       = 0x46
+	AtLeast32    = 0x4f
+	Zero64       = 0x50
+	Same64       = 0x51
+	AtLeast64    = 0x5a
+	ZerosAbove32 = 0x67
+	Ones32       = 0x69
+	Sum32        = 0x6a
+	RoundRight32 = 0x78
+	ZerosAbove64 = 0x79
+	Ones64       = 0x7b
+	Sum64        = 0x7c
+	RoundRight64 = 0x8a
+	Lower        = 0xa7
+	WidenSigned  = 0xac
+	Widen        = 0xad
+
+	KeyGet = 0xe0
+	KeySet = 0xe1
 )
 
 // Jump is where a branch goes and what it leaves on the stack.

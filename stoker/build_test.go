@@ -3,6 +3,7 @@ package stoker_test
 import (
 	"bytes"
 	"encoding/hex"
+	"slices"
 	"strings"
 	"testing"
 
@@ -94,4 +95,49 @@ func good(t *testing.T, data []byte) *stoker.Module {
 func badCode(t *testing.T, data []byte, code string, err api.Errno, off int) {
 	t.Helper()
 	wants(t, data, err, len(data)-1-len(unhex(code))+off)
+}
+
+// paged is a module with memory: how many pages it has is the last byte of its head.
+func paged(pages byte, globals string, fs ...function) []byte {
+	out := module(globals, fs...)
+	out[len(head(globals, fs...))-1] = pages
+	return out
+}
+
+// begin starts a module on a store of its own.
+func begin(t *testing.T, data []byte) *stoker.Instance {
+	t.Helper()
+	return startOn(t, stoker.NewStore(), data)
+}
+
+func startOn(t *testing.T, s *stoker.Store, data []byte) *stoker.Instance {
+	t.Helper()
+	i := s.Start(good(t, data))
+	if i == nil {
+		t.Fatalf("no instance of % x", data)
+	}
+	return i
+}
+
+// gives wants a call's answer, and the arguments as they were.
+func gives(t *testing.T, i *stoker.Instance, want api.Reply, fuel, f int, args ...uint64) {
+	t.Helper()
+	given := slices.Clone(args)
+	if got := i.Call(f, given, fuel); got != want {
+		t.Errorf("Call(%d, %d, %d) = %+v, want %+v", f, args, fuel, got, want)
+	}
+	if !slices.Equal(given, args) {
+		t.Errorf("Call(%d, %d, %d) wrote %d into the arguments", f, args, fuel, given)
+	}
+}
+
+// burns wants a new instance's first answer, and that it takes just that fuel: more of it changes nothing, with one less it is gone.
+func burns(t *testing.T, data []byte, want api.Reply, f int, args ...uint64) {
+	t.Helper()
+	for _, fuel := range []int{want.Used, want.Used + 1, api.MaxFuel} {
+		gives(t, begin(t, data), want, fuel, f, args...)
+	}
+	if want.Used > 0 {
+		gives(t, begin(t, data), api.Reply{Trap: api.Fuel, Used: want.Used - 1}, want.Used-1, f, args...)
+	}
 }
