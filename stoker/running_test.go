@@ -187,6 +187,19 @@ func TestVariablesAndChoice(t *testing.T) {
 	}
 }
 
+// TestEachBurnsOne has every instruction whose types are always the same, and those of globals; what they answer is told elsewhere.
+func TestEachBurnsOne(t *testing.T) {
+	all := append(shapes(), shape{0x23, "00", "", "i"}, shape{0x24, "00", "i", ""}, shape{0x1a, "", "l", ""}, shape{0x1b, "", "lli", "l"})
+	for _, s := range all {
+		data := paged(1, "01 7f01 05", function{":" + s.gives, "", push(s.takes) + digits(s.op) + s.behind})
+		want := begin(t, data).Call(0, nil, api.MaxFuel)
+		if want.Used != len(s.takes)+1 {
+			t.Errorf("%x: %+v, want %d instructions", s.op, want, len(s.takes)+1)
+		}
+		burns(t, data, want, 0)
+	}
+}
+
 func TestTraps(t *testing.T) {
 	for _, c := range []struct {
 		code string
