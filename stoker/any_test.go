@@ -119,29 +119,3 @@ func TestBrokenModulesRun(t *testing.T) {
 		t.Errorf("only %d modules were run", ran)
 	}
 }
-
-// TestNothingIsLeftBehind has each trap come when all that can be changed has been.
-func TestNothingIsLeftBehind(t *testing.T) {
-	for trap, code := range map[api.Trap]string{
-		api.Unreachable: "00",
-		api.Divide:      "4101 4100 6e 1a",
-		api.Overflow:    "418080808078 417f 6d 1a",
-		api.Bounds:      "41c001 2d00 1a",
-		api.Fuel:        "0340 0c00 0b",
-		api.Calls:       "1001",
-		api.Keys:        "420a 4201 e1 420b 4201 e1 420c 4201 e1 420d 4201 e1 420e 4201 e1 420f 4201 e1 4210 4201 e1",
-	} {
-		data := paged(1, "01 7f01 05",
-			function{":i", "", "4101 2400 4101 4102 3a00 4101 40 1a 4201 4203 e1 4202 4204 e1 4107"},
-			function{":", "", "4103 2400 4101 4109 3a00 4101 40 1a 4201 4209 e1 4203 4209 e1" + code})
-		s := stoker.NewStore()
-		i := startOn(t, s, data)
-		gives(t, i, api.Reply{Value: 7, Used: 15}, 50, 0)
-		if got := holds(t, data, s, i, 1, nil, 500); got.Trap != trap {
-			t.Errorf("%s: %+v, want trap %d", code, got, trap)
-		}
-		hasKeys(t, s, 1, 2)
-		hasValue(t, s, 1, 3, true)
-		gives(t, i, api.Reply{Value: 7, Used: 15}, 50, 0)
-	}
-}

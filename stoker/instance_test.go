@@ -3,7 +3,6 @@ package stoker_test
 import (
 	"math"
 	"slices"
-	"sync"
 	"testing"
 
 	"stoker/api"
@@ -30,9 +29,7 @@ func TestErrorsOfCall(t *testing.T) {
 	} {
 		gives(t, i, api.Reply{Err: c.err}, c.fuel, c.f, c.args...)
 	}
-	if got := i.Globals(); !slices.Equal(got, []uint64{5}) {
-		t.Errorf("a call with an error left the globals %d", got)
-	}
+	hasGlobals(t, i, 5)
 	hasMemory(t, i, make([]byte, 64))
 }
 
@@ -53,9 +50,7 @@ func TestNoFunctions(t *testing.T) {
 		gives(t, i, api.Reply{Err: api.ErrFunc}, 5, f)
 	}
 	hasMemory(t, i, nil)
-	if got := i.Globals(); !slices.Equal(got, []uint64{5}) {
-		t.Errorf("Globals() = %d", got)
-	}
+	hasGlobals(t, i, 5)
 }
 
 // TestNoInstance asks what the calls gave beside an error.
@@ -105,9 +100,7 @@ func TestListsComeOutNew(t *testing.T) {
 		want := make([]byte, 64*(n+2))
 		want[1] = 127
 		hasMemory(t, i, want)
-		if got := i.Globals(); !slices.Equal(got, []uint64{7, n}) {
-			t.Errorf("Globals() = %d after a list was written into", got)
-		}
+		hasGlobals(t, i, 7, n)
 		hasKeys(t, s, []int64{0, 1, 2}[:n+1]...)
 	}
 }
@@ -124,70 +117,5 @@ func TestArgumentsAreNotKept(t *testing.T) {
 		t.Errorf("the arguments were written into: %d", spare)
 	}
 	clear(spare)
-	if got := i.Globals(); !slices.Equal(got, []uint64{77}) {
-		t.Errorf("Globals() = %d after the arguments were changed", got)
-	}
-}
-
-// counting adds its argument to a key, to a global, and to eight bytes of memory.
-func counting() []byte {
-	return paged(1, "01 7e01 00",
-		function{"l:l", "", "4201 4201 e0 2000 7c e1 2300 2000 7c 2400 4100 4100 2900 2000 7c 3700 4201 e0"})
-}
-
-func TestCallsFromEverywhere(t *testing.T) {
-	const workers, times = 8, 200
-	m := good(t, counting())
-	s := stoker.NewStore()
-	instances := []*stoker.Instance{s.Start(m), s.Start(m), s.Start(m)}
-	var all sync.WaitGroup
-	for w := range workers {
-		all.Go(func() {
-			for n := range times {
-				i := instances[(w+n)%len(instances)]
-				if got := i.Call(0, []uint64{1}, 100); got.Err != api.OK || got.Trap != api.None || got.Used != 18 {
-					t.Errorf("a call = %+v", got)
-				}
-				i.Memory()
-				i.Globals()
-				s.Get(int64(len(s.Keys())))
-				s.Start(m)
-			}
-		})
-	}
-	all.Wait()
-	hasKeys(t, s, 1)
-	hasValue(t, s, 1, workers*times, true)
-	total, bytes := uint64(0), uint64(0)
-	for _, i := range instances {
-		total += i.Globals()[0]
-		memory := i.Memory()
-		bytes += uint64(memory[0]) + uint64(memory[1])<<8
-	}
-	if total != workers*times || bytes != total {
-		t.Errorf("globals count %d calls, memory %d, want %d", total, bytes, workers*times)
-	}
-}
-
-// TestSameCallsSameAnswers makes the same calls on stores of their own, alone and at once.
-func TestSameCallsSameAnswers(t *testing.T) {
-	m := good(t, counting())
-	answers := func() []api.Reply {
-		i := stoker.NewStore().Start(m)
-		out := []api.Reply{}
-		for n := range uint64(50) {
-			out = append(out, i.Call(0, []uint64{n}, int(n)))
-		}
-		return out
-	}
-	want := answers()
-	var all sync.WaitGroup
-	for range 8 {
-		all.Go(func() {
-			if got := answers(); !slices.Equal(got, want) {
-				t.Errorf("answers %v, want %v", got, want)
-			}
-		})
-	}
-	all.Wait()
+	hasGlobals(t, i, 77)
 }

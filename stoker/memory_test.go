@@ -101,6 +101,13 @@ func hasMemory(t *testing.T, i *stoker.Instance, want []byte) {
 	}
 }
 
+func hasGlobals(t *testing.T, i *stoker.Instance, want ...uint64) {
+	t.Helper()
+	if got := i.Globals(); !slices.Equal(got, want) {
+		t.Errorf("Globals() = %d, want %d", got, want)
+	}
+}
+
 func TestBytesGoToMemory(t *testing.T) {
 	i := begin(t, cells())
 	want := make([]byte, 128)
@@ -198,21 +205,15 @@ func TestGlobals(t *testing.T) {
 	s := stoker.NewStore()
 	i, other := s.Start(m), s.Start(m)
 	first := []uint64{greatest32, 1<<64 - 1, 5, 1 << 31}
-	has := func(i *stoker.Instance, want []uint64) {
-		t.Helper()
-		if got := i.Globals(); !slices.Equal(got, want) {
-			t.Errorf("Globals() = %d, want %d", got, want)
-		}
-	}
-	has(i, first)
+	hasGlobals(t, i, first...)
 	gives(t, i, api.Reply{Value: greatest32, Used: 3}, 3, 0, 77)
 	gives(t, i, api.Reply{Value: 77, Used: 3}, 3, 0, greatest32-1)
 	gives(t, i, api.Reply{Value: 5, Used: 3}, 3, 1, 1<<64-2)
 	gives(t, i, api.Reply{Value: 1<<64 - 2, Used: 3}, 3, 1, 1<<63)
 	gives(t, i, api.Reply{Value: 1<<64 - 1, Used: 1}, 1, 2)
 	gives(t, i, api.Reply{Value: 1 << 31, Used: 1}, 1, 3)
-	has(i, []uint64{greatest32 - 1, 1<<64 - 1, 1 << 63, 1 << 31})
-	has(other, first)
+	hasGlobals(t, i, greatest32-1, 1<<64-1, 1<<63, 1<<31)
+	hasGlobals(t, other, first...)
 	// The module has its first values still.
-	has(s.Start(m), first)
+	hasGlobals(t, s.Start(m), first...)
 }

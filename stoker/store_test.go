@@ -124,7 +124,6 @@ func TestInstancesAreApart(t *testing.T) {
 	hasMemory(t, i, want)
 	hasMemory(t, j, make([]byte, 64))
 	hasMemory(t, s.Start(m), make([]byte, 64))
-	if a, b := i.Globals(), j.Globals(); !slices.Equal(a, []uint64{7}) || !slices.Equal(b, []uint64{5}) {
-		t.Errorf("globals %d and %d", a, b)
-	}
+	hasGlobals(t, i, 7)
+	hasGlobals(t, j, 5)
 }
